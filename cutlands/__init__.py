@@ -1,0 +1,1 @@
+"""Cutlands: lines and planes that cut, and the lands between."""
