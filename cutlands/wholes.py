@@ -27,3 +27,31 @@ def common_divisor(one, other):
         one = other
         other = rest
     return abs(one)
+
+
+def dot(numbers, others):
+    """The products of numbers and others, pair by pair, added up."""
+    return sum([one * other for one, other in zip(numbers, others)])
+
+
+def lowest(row):
+    """A tuple of whole numbers, divided by the greatest number that divides all of them."""
+    divisor = 0
+    for number in row:
+        divisor = common_divisor(divisor, number)
+        if divisor == 1:
+            return row
+    if divisor == 0:
+        return row
+    return tuple([number // divisor for number in row])
+
+
+def cleared(row, other, place):
+    """The row with 0 at a place where the other has not: so often the row, and so often the other added."""
+    # The row is taken so often from 1 on, so what is asked of its sign stays as it is. The other
+    # is, too, where the two have unlike signs at the place.
+    if row[place] == 0:
+        return row
+    often = abs(other[place])
+    other_often = -row[place] * sign_of(other[place])
+    return lowest(tuple([often * mine + other_often * theirs for mine, theirs in zip(row, other)]))

@@ -38,6 +38,11 @@ FORBIDDEN_WORDS = re.compile(
     r"|namedtuple|NamedTuple|TypedDict|TYPE_CHECKING|abstractmethod)\b|dataclass|overload|contextmanager"
 )
 
+# The rows L23 and L24: what is walked at once, and where it may stand.
+WALKED_NAMES = set("zip enumerate reversed range".split())
+WALKED_METHODS = set("items keys values".split())
+WALKERS = set("list tuple dict sorted sum any all enumerate zip min max".split())
+
 PLAIN_NAME = re.compile(r"[A-Za-z][A-Za-z0-9_]*\Z")
 
 
@@ -67,6 +72,19 @@ def own_methods_and_values():
         if isinstance(node.ctx, ast.Store):
             values.add(node.attr)
     return methods, values
+
+
+def calls_with_parents():
+    """Each call with the node straight around it."""
+    for path, tree in trees():
+        for parent in ast.walk(tree):
+            for node in ast.iter_child_nodes(parent):
+                if isinstance(node, ast.Call):
+                    yield path, node, parent
+
+
+def called_name(node):
+    return node.func.id if isinstance(node, ast.Call) and isinstance(node.func, ast.Name) else None
 
 
 def bound_names(tree):
@@ -186,6 +204,20 @@ class Language(unittest.TestCase):
             right = right and (PLAIN_NAME.match(node.attr) or node.attr == "__init__")
             self.check(right and node.attr not in FORBIDDEN_NAMES, path, node, node.attr)
         self.assertLessEqual({name for name in methods if name.startswith("_")}, SPECIAL_METHODS)
+
+    def test_what_is_walked_is_walked_at_once(self):
+        for path, node, parent in calls_with_parents():
+            method = node.func.attr if isinstance(node.func, ast.Attribute) else None
+            if called_name(node) in WALKED_NAMES or method in WALKED_METHODS:
+                in_loop = isinstance(parent, (ast.For, ast.comprehension)) and parent.iter is node
+                in_call = called_name(parent) in WALKERS and parent.args[0] is node
+                self.check(in_loop or in_call, path, node, "walked on the spot")
+
+    def test_sets_are_not_kept(self):
+        for path, node, parent in calls_with_parents():
+            if called_name(node) in ("set", "frozenset"):
+                right = isinstance(parent, (ast.Compare, ast.BinOp)) or called_name(parent) in ("sorted", "len")
+                self.check(right, path, node, "a set is asked on the spot")
 
     def test_is_stands_beside_none_true_and_false_alone(self):
         for path, node in nodes(ast.Compare):
