@@ -72,7 +72,7 @@ def reach(cutting, signs):
 def shows_bounded(cutting, signs, thing):
     """Whether anything at all is right weights that the land is bounded."""
     check_land(cutting, signs)
-    if not is_weights(cutting, thing) or any([weight < 1 for weight in thing]):
+    if not is_weights(cutting.many(), thing) or any([weight < 1 for weight in thing]):
         return False
     dims = cutting.dims()
     cuts = cutting.cuts()

@@ -10,22 +10,22 @@ from cutlands.meets import filled, free_places, left_for, pivots_and_rests, sett
 from cutlands.wholes import cleared, dot, is_whole, sign_of
 
 
-def is_signs(cutting, thing):
-    """Whether anything at all is signs of a cutting."""
-    if not isinstance(thing, tuple) or len(thing) != cutting.many():
+def is_signs(many, thing):
+    """Whether anything at all is signs of so many cuts."""
+    if not isinstance(thing, tuple) or len(thing) != many:
         return False
     return all([is_whole(sign) and -1 <= sign <= 1 for sign in thing])
 
 
 def check_signs(cutting, thing):
     """Refuses what is no signs of a cutting."""
-    if not is_signs(cutting, thing):
+    if not is_signs(cutting.many(), thing):
         raise NoSigns("no signs of the cutting")
 
 
-def is_weights(cutting, thing):
-    """Whether anything at all is a list of whole numbers, one for each cut."""
-    if not isinstance(thing, list) or len(thing) != cutting.many():
+def is_weights(many, thing):
+    """Whether anything at all is a list of so many whole numbers."""
+    if not isinstance(thing, list) or len(thing) != many:
         return False
     return all([is_whole(weight) for weight in thing])
 
@@ -108,11 +108,9 @@ def paper_of_noughts(rests, dims):
     return None
 
 
-def held(cutting, signs):
-    """A spot that has the signs, ("spot", spot), or a paper that none has, ("paper", weights)."""
-    check_signs(cutting, signs)
-    dims = cutting.dims()
-    rows = weighted(cutting.cuts())
+def parts_or_weights(cuts, dims, signs):
+    """What held tells, of cuts of any dims, of which some may go through the same spots."""
+    rows = weighted(cuts)
     found = pivots_and_rests([row for row, sign in zip(rows, signs) if sign == 0], dims)
     paper = paper_of_noughts(found[1], dims)
     if paper is not None:
@@ -128,6 +126,12 @@ def held(cutting, signs):
     return ("spot", filled(pivots, parts_within(layers, places, [(0, 1)] * dims)))
 
 
+def held(cutting, signs):
+    """A spot that has the signs, ("spot", spot), or a paper that none has, ("paper", weights)."""
+    check_signs(cutting, signs)
+    return parts_or_weights(cutting.cuts(), cutting.dims(), signs)
+
+
 def may_weigh(sign, weight):
     """Whether a paper may give a cut that wants a sign this weight."""
     return sign == 0 or weight == 0 or sign_of(weight) == sign
@@ -136,7 +140,7 @@ def may_weigh(sign, weight):
 def shows_none(cutting, signs, thing):
     """Whether anything at all is a right paper that no spot has the signs."""
     check_signs(cutting, signs)
-    if not is_weights(cutting, thing):
+    if not is_weights(cutting.many(), thing):
         return False
     if not all([may_weigh(sign, weight) for sign, weight in zip(signs, thing)]):
         return False

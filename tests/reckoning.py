@@ -1,5 +1,6 @@
 """What the tests reckon for themselves, by other ways than the program's, and the cuttings that they ask of."""
 
+import functools
 import itertools
 import random
 from fractions import Fraction
@@ -130,6 +131,82 @@ def ends_of_lands(cuts, dims, place):
     }
 
 
+def choices(many):
+    """All choices of the numbers of so many things, as rising tuples."""
+    for length in range(many + 1):
+        yield from itertools.combinations(range(many), length)
+
+
+def flat_on(cuts, dims, some):
+    """The flat (dim, cuts) that some cuts have in common, None where they have nothing, by ranks alone."""
+    chosen = [cuts[k] for k in some]
+    rows = rank(chosen)
+    if rank([cut[:dims] for cut in chosen]) != rows:
+        return None
+    return (dims - rows, tuple(k for k, cut in enumerate(cuts) if rank(chosen + [cut]) == rows))
+
+
+def all_flats(cuts, dims):
+    """All flats, each with its number: the choices of cuts that come to it, those of odd length taken off."""
+    found = {}
+    for some in choices(len(cuts)):
+        flat = flat_on(cuts, dims, some)
+        if flat is not None:
+            found[flat] = found.get(flat, 0) + (-1) ** len(some)
+    return found
+
+
+def weights_of_noughts(rows):
+    """Weights, not all 0, by which the rows come to noughts, in Fractions; None where there are none."""
+    left = []
+    for k, row in enumerate(rows):
+        row = [Fraction(number) for number in row]
+        weights = [Fraction(k == other) for other in range(len(rows))]
+        for place, pivot, often in left:
+            step = row[place] / pivot[place]
+            row = [mine - step * theirs for mine, theirs in zip(row, pivot)]
+            weights = [mine - step * theirs for mine, theirs in zip(weights, often)]
+        place = next((place for place, number in enumerate(row) if number), None)
+        if place is None:
+            return weights
+        left.append((place, row, weights))
+    return None
+
+
+def circuits(spots):
+    return circuits_of(tuple(spots))
+
+
+@functools.cache
+def circuits_of(spots):
+    """Weights by which the spots, each with a 1 behind it, come to noughts, and those with weights are needed for it.
+
+    All weights by which spots come to noughts are sums of such ones with nowhere unlike signs.
+    """
+    rows = [as_fractions(spot) + (Fraction(1),) for spot in spots]
+    found = []
+    for some in choices(len(spots)):
+        chosen = [rows[k] for k in some]
+        if len(some) > 1 and rank(chosen) == len(some) - 1:
+            weights = weights_of_noughts(chosen)
+            if all(weights):
+                row = [Fraction(0)] * len(spots)
+                for k, weight in zip(some, weights):
+                    row[k] = weight
+                found.append(row)
+    return found
+
+
+def is_drawn(found, row):
+    """Whether some cut draws a row: whether no circuit, turned or not, shows that none does."""
+    for weights in found:
+        for turn in (1, -1):
+            products = [turn * weight * mark for weight, mark in zip(weights, row)]
+            if all(product >= 0 for product in products) and any(products):
+                return False
+    return True
+
+
 LINE_CUTS = [(1, 0), (1, 1), (-2, 3), (3, -4), (1, -5), (7, 2), (-1, 9)]
 PLANE_CUTS = [(1, 0, 3), (2, -1, 3), (0, 1, 0), (0, -2, 5), (1, 1, 0), (-3, 2, 1), (1, 0, 4)]
 SPACE_CUTS = [
@@ -156,6 +233,11 @@ LYING_ALONG_ONE_WAY = {
     2: [(1, 1, 0), (1, 1, 2)],
     3: [(1, 1, 0, 0), (1, -1, 0, 0), (0, 1, 0, 1), (2, 1, 0, 3)],
 }
+# Several through all that two ahead of them have in common, and one that is not.
+THROUGH_WHAT_TWO_HAVE = {
+    2: [(1, 1, 0), (1, -1, 2), (2, 0, 2), (0, 3, -3), (1, 0, 5)],
+    3: [(1, 0, 2, 1), (0, 1, 0, 1), (1, 1, 2, 2), (-1, 2, -2, 1), (0, 0, 1, 0)],
+}
 GREAT = {
     1: [(BIG, 1), (BIG - 1, 1), (-BIG, BIG - 2), (1, BIG)],
     2: [(BIG, BIG - 1, 1), (BIG - 1, BIG - 2, 1), (-1, BIG, BIG - 5), (BIG, BIG - 1, 2)],
@@ -179,7 +261,7 @@ def small_cuttings():
     told = []
     for dims in (1, 2, 3):
         told.extend((dims, CUTS_OF_DIMS[dims][:many]) for many in range(5))
-        for kind in (SIDE_BY_SIDE, THROUGH_ONE_SPOT, MIXED, LYING_ALONG_ONE_WAY):
+        for kind in (SIDE_BY_SIDE, THROUGH_ONE_SPOT, MIXED, LYING_ALONG_ONE_WAY, THROUGH_WHAT_TWO_HAVE):
             if dims in kind:
                 told.append((dims, kind[dims][:5]))
         told.extend((dims, by_chance(seed, dims, 4, 2)) for seed in range(6))
@@ -205,6 +287,7 @@ def full_cuttings():
     told.append((3, by_chance(12, 3, 6, 1)))
     told.append((3, MIXED[3] + [(0, 0, 1, 0), (0, 0, 1, 1)]))
     told.append((3, THROUGH_ONE_SPOT[3] + [(1, 2, 3, 6), (0, 1, -1, 0)]))
+    told.append((3, THROUGH_WHAT_TWO_HAVE[3] + [(0, 0, 1, 2), (3, 1, 6, 4)]))
     return told
 
 

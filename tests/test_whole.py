@@ -5,9 +5,11 @@ import unittest
 
 import reckoning
 from cutlands.bounded import bounded_lands, reach, shows_bounded, shows_far
+from cutlands.counting import how_many_bounded, how_many_lands
 from cutlands.lands import land_spots, lands
 from cutlands.meets import meet
 from cutlands.signs import held, shows_none
+from cutlands.tables import drawn, draws, shows_undrawn
 from reckoning import BIG, all_rows, made
 
 
@@ -50,6 +52,26 @@ class Either(unittest.TestCase):
                 if answer[0] == "bounded":
                     found.append(land)
             self.assertEqual(bounded_lands(cutting), found)
+
+    def test_as_many_by_counting_alone(self):
+        for dims, cuts in some_cuttings():
+            cutting = made(dims, cuts)
+            self.assertEqual(how_many_lands(cutting), len(lands(cutting)))
+            self.assertEqual(how_many_bounded(cutting), len(bounded_lands(cutting)))
+
+    def test_each_row_is_drawn_or_shown_to_be_none(self):
+        # The spots are such as lie in the lands of a cutting, and one of them twice.
+        for dims, cuts in reckoning.small_cuttings() + reckoning.great_cuttings():
+            spots = land_spots(made(dims, cuts))[:3]
+            spots = spots + spots[:1]
+            rows = [row for row in all_rows(len(spots)) if any(row)]
+            told = {row: drawn(dims, spots, row) for row in rows}
+            weights = [answer[1] for answer in told.values() if answer[0] == "weights"][::9]
+            for row, answer in told.items():
+                self.assertIs(draws(dims, spots, row, answer[1]), answer[0] == "cut")
+                self.assertIs(shows_undrawn(dims, spots, row, answer[1]), answer[0] == "weights")
+                if answer[0] == "cut":
+                    self.assertFalse(any(shows_undrawn(dims, spots, row, other) for other in weights))
 
     def test_cuts_meet_just_where_signs_of_0_are_held(self):
         for dims, cuts in reckoning.small_cuttings():
