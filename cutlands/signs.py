@@ -5,7 +5,7 @@ its d numbers times the parts come to more than c (or, where a module says so, t
 """
 
 from cutlands.errors import NoSigns
-from cutlands.fractions import ceiling_of, floor_of, less, over, plus, times
+from cutlands.fractions import ceiling_of, floor_of, less, over
 from cutlands.meets import filled, free_places, left_for, pivots_and_rests, settled, weighted
 from cutlands.wholes import cleared, dot, is_whole, sign_of
 
@@ -79,16 +79,41 @@ def ends_at(rows, place, parts):
     return (low, high)
 
 
+def whole_between(low, high):
+    """A whole number above low and below high, the nearest to nought; None where there is none."""
+    whole = 0
+    if low is not None and low[0] >= 0:
+        whole = floor_of(low) + 1
+    elif high is not None and high[0] <= 0:
+        whole = ceiling_of(high) - 1
+    if low is not None and not less(low, (whole, 1)):
+        return None
+    if high is not None and not less((whole, 1), high):
+        return None
+    return whole
+
+
 def one_between(low, high):
-    """A fraction above low and below high, a whole number near nought where that is one."""
-    whole = (0, 1)
-    if low is not None and not less(low, whole):
-        whole = (floor_of(low) + 1, 1)
-    elif high is not None and not less(whole, high):
-        whole = (ceiling_of(high) - 1, 1)
-    if low is None or high is None or (less(low, whole) and less(whole, high)):
-        return whole
-    return times(plus(low, high), (1, 2))
+    """The fraction above low and below high with the least bottom, so that what is told stays short."""
+    # Directions may lie on their ends, and then have nothing else where both are the same.
+    if low is not None and low == high:
+        return low
+    # Where no whole number lies between, the floor of low is taken off all, and what is sought
+    # is 1 over one that lies between 1 over both. All stays in lowest terms.
+    floors = []
+    whole = whole_between(low, high)
+    while whole is None:
+        floor = floor_of(low)
+        floors.append(floor)
+        rest = low[0] - floor * low[1]
+        over_rest = None if rest == 0 else (low[1], rest)
+        low = (high[1], high[0] - floor * high[1])
+        high = over_rest
+        whole = whole_between(low, high)
+    found = (whole, 1)
+    for floor in reversed(floors):
+        found = (floor * found[0] + found[1], found[0])
+    return found
 
 
 def parts_within(layers, places, parts):

@@ -8,6 +8,7 @@ import reckoning
 from anything import things_of_no_number
 from cutlands.cuts import Cutting
 from cutlands.errors import CutError, NoSigns
+from cutlands.lands import lands
 from cutlands.signs import held, shows_none
 from reckoning import BIG, CUTS_OF_DIMS, all_rows, changed_at_one_place, made, wrong_signs
 
@@ -82,6 +83,14 @@ class Held(SignsCase):
         cuts = [(BIG, BIG - 1), (BIG - 1, BIG - 2)]
         self.assertEqual(self.check_held(1, cuts, (-1, 1)), "spot")
         self.assertEqual(self.check_held(1, cuts, (1, -1)), "paper")
+
+    def test_spots_are_short_where_lands_are_wide(self):
+        # Whatever figures the cuts have, spots of few figures lie in their lands.
+        for dims in (1, 2, 3):
+            cutting = made(dims, reckoning.by_chance(3, dims, 7, BIG))
+            for signs in lands(cutting):
+                for part in held(cutting, signs)[1]:
+                    self.assertLess(abs(part[0]) + part[1], 10 ** 10)
 
     def test_of_no_cuts_a_spot(self):
         for dims in (1, 2, 3):

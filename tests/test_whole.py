@@ -1,5 +1,6 @@
-"""The whole, of what is written so far: [4]."""
+"""The whole: [4]; and [1], that all it speaks of is there."""
 
+import importlib
 import itertools
 import unittest
 
@@ -10,6 +11,8 @@ from cutlands.lands import land_spots, lands
 from cutlands.meets import meet
 from cutlands.signs import held, shows_none
 from cutlands.tables import drawn, draws, shows_undrawn
+from cutlands.walks import is_walk, parting, steps_off, walk
+from cutlands.walls import land_behind, walls
 from reckoning import BIG, all_rows, made
 
 
@@ -73,6 +76,37 @@ class Either(unittest.TestCase):
                 if answer[0] == "cut":
                     self.assertFalse(any(shows_undrawn(dims, spots, row, other) for other in weights))
 
+    def test_as_many_steps_apart_as_cuts_part_them(self):
+        # The least number of steps is found by going through walls alone, from all lands at once that are reached.
+        for dims, cuts in some_cuttings():
+            cutting = made(dims, cuts)
+            found = lands(cutting)
+            behind = {land: [land_behind(cutting, land, k) for k, spot in walls(cutting, land)] for land in found}
+            for one in found[::5]:
+                apart = self.steps_apart(behind, one)
+                self.assertEqual(sorted(apart), found)
+                for other in found[::3]:
+                    self.assertEqual(apart[other], len(parting(cutting, one, other)))
+                    steps = walk(cutting, one, other)
+                    self.assertEqual(len(steps), apart[other])
+                    self.assertTrue(is_walk(cutting, one, other, steps))
+                counts = list(apart.values())
+                self.assertEqual(steps_off(cutting, one), [counts.count(many) for many in range(max(counts) + 1)])
+
+    def steps_apart(self, behind, one):
+        """How many steps each land is off, where each land has these lands behind its walls."""
+        apart = {one: 0}
+        reached = [one]
+        while reached:
+            further = []
+            for here in reached:
+                for land in behind[here]:
+                    if land not in apart:
+                        apart[land] = apart[here] + 1
+                        further.append(land)
+            reached = further
+        return apart
+
     def test_cuts_meet_just_where_signs_of_0_are_held(self):
         for dims, cuts in reckoning.small_cuttings():
             cutting = made(dims, cuts)
@@ -81,6 +115,35 @@ class Either(unittest.TestCase):
                 alone = made(dims, [cuts[k] for k in some])
                 met = meet(cutting, some)[0] == "met"
                 self.assertEqual(met, held(alone, (0,) * len(some))[0] == "spot")
+
+
+class There(unittest.TestCase):
+    """[1] and the interface: each name in the module that the document names."""
+
+    NAMES = {
+        "errors": "CutError NoCutting NoTable NoFraction NoSpot NoSigns NoLand NoFace NoNumber NoText NoDeed",
+        "fractions": "made plus minus times over less floor_of ceiling_of",
+        "cuts": "Cutting",
+        "meets": "meet",
+        "signs": "held shows_none",
+        "lands": "lands land_at number_of land_of land_spots split gone_through",
+        "bounded": "reach shows_bounded shows_far bounded_lands box",
+        "flats": "flats flat_of flat_numbers",
+        "counting": "dim_sums how_many_lands how_many_bounded trace",
+        "tables": "drawn draws shows_undrawn table_drawn rows_drawn row_not_drawn",
+        "walls": "walls land_behind",
+        "walks": "parting walk is_walk how_many_walks steps_off poles",
+        "faces": "faces face_dims face_counts beside at_edge between",
+        "texts": "shown_fraction shown_spot shown_cut shown_cutting shown_signs "
+                 "read_fraction read_spot read_cut read_cutting read_signs",
+        "desk": "Desk",
+    }
+
+    def test_each_name(self):
+        for name, names in self.NAMES.items():
+            module = importlib.import_module("cutlands." + name)
+            for thing in names.split():
+                self.assertTrue(callable(getattr(module, thing)), (name, thing))
 
 
 class Changed(unittest.TestCase):
