@@ -43,6 +43,12 @@ WALKED_NAMES = set("zip enumerate reversed range".split())
 WALKED_METHODS = set("items keys values".split())
 WALKERS = set("list tuple dict sorted sum any all enumerate zip min max".split())
 
+# The row L22: where a keyword may stand.
+KEYWORDS = {
+    "sorted": ("key", "reverse"), "min": ("key", "default"), "max": ("key", "default"), "sum": ("start",),
+    "enumerate": ("start",), "zip": ("strict",),
+}
+
 PLAIN_NAME = re.compile(r"[A-Za-z][A-Za-z0-9_]*\Z")
 
 
@@ -225,6 +231,33 @@ class Language(unittest.TestCase):
                 if isinstance(sign, (ast.Is, ast.IsNot)):
                     right = isinstance(right_side, ast.Constant) and right_side.value in (None, True, False)
                     self.check(right, path, node, "is")
+
+    def test_numbers_and_texts(self):
+        for path, node in nodes(ast.BinOp):
+            if isinstance(node.op, ast.Pow):
+                written = isinstance(node.right, ast.Constant) and 0 <= node.right.value <= 64
+                self.check(written, path, node, "a written exponent")
+        for path, node in nodes(ast.Constant):
+            if isinstance(node.value, str):
+                self.check("%" not in node.value, path, node, "a text")
+
+    def test_keywords(self):
+        for path, node in nodes(ast.Call):
+            allowed = KEYWORDS.get(called_name(node), ())
+            for keyword in node.keywords:
+                self.check(keyword.arg in allowed, path, node, keyword.arg)
+
+    def test_what_a_file_keeps_is_only_read(self):
+        # A list or dict of a file's top is asked by an index or by in alone.
+        for path, tree in trees():
+            kept = [node.targets[0].id for node in tree.body if isinstance(node, ast.Assign)
+                    and isinstance(node.value, (ast.List, ast.Dict))]
+            for parent in ast.walk(tree):
+                for node in ast.iter_child_nodes(parent):
+                    if isinstance(node, ast.Name) and isinstance(node.ctx, ast.Load) and node.id in kept:
+                        index = isinstance(parent, ast.Subscript) and isinstance(parent.ctx, ast.Load)
+                        asked = isinstance(parent, ast.Compare) and isinstance(parent.ops[0], (ast.In, ast.NotIn))
+                        self.check(index or asked, path, node, node.id)
 
     def test_errors_taken_are_named(self):
         for path, node in nodes(ast.ExceptHandler):
