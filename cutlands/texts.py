@@ -1,6 +1,6 @@
 """How fractions, spots, cuts, cuttings and signs are written, and how they are read back."""
 
-from cutlands.cuts import MOST_DIMS, Cutting, is_cut, is_dims
+from cutlands.cuts import MOST_DIMS, Cutting, is_cut
 from cutlands.errors import NoText
 from cutlands.wholes import common_divisor
 
@@ -109,13 +109,14 @@ def read_cut(text):
 
 
 def read_cutting(text):
-    """The cutting that a text writes; what is written as one but is none is refused by the cutting itself."""
+    """The cutting that a text writes."""
     check_text(text)
     words = text.split(" ")
+    # All words are read ahead of the cutting, which refuses for itself what is written as one
+    # but is none, its dims too: so what is not written as told is refused first.
     dims = read_number(words[0])
-    if not is_dims(dims):
-        raise NoText("a cutting has one to three dims")
-    return Cutting(dims, [read_cut(word) for word in words[1:]])
+    cuts = [read_cut(word) for word in words[1:]]
+    return Cutting(dims, cuts)
 
 
 def read_signs(text):

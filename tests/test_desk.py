@@ -248,13 +248,16 @@ class NoDeeds(DeskCase):
 class StagesRefuse(DeskCase):
     def test_cuttings(self):
         for text in [
-            "", " ", "x", "4", "0", "2 ", " 2", "  2", "2 1,0", "2 0,0:1", "2  1,0:3", "2 1,0:3 ", "02",
+            "", " ", "x", "2 ", " 2", "  2", "2 1,0", "2 0,0:1", "2  1,0:3", "2 1,0:3 ", "02",
             "2 1,2,3,4:5", "2\n",
-            "1,0:3", "lands", "+", "2 " + "1" * 61 + ",0:3",
+            "1,0:3", "lands", "+", "2 " + "1" * 61 + ",0:3", "4 ", "04", "-0", "4 1,0", "0 0,0:1", "4 1,2,3,4:5",
         ]:
             for desk in (Desk(), desk_with(THREE)):
                 self.refused(NoText, desk, "cutting " + text)
-        for text, at in [("2 1:3", 0), ("2 1,0:3 1,0:3", 1), ("2 1,0:3 0,1:1 -2,0:-6", 2), ("1 1,0:3", 0)]:
+        for text, at in [
+            ("2 1:3", 0), ("2 1,0:3 1,0:3", 1), ("2 1,0:3 0,1:1 -2,0:-6", 2), ("1 1,0:3", 0), ("0", -1), ("4", -1),
+            ("-1", -1), ("9" * 60, -1), ("4 1,0:3", -1), ("0 1,0:3 1,0:3", -1),
+        ]:
             for desk in (Desk(), desk_with(THREE)):
                 self.assertEqual(self.refused(NoCutting, desk, "cutting " + text).at, at)
         eight = " ".join("1:" + str(c) for c in range(8))
@@ -324,7 +327,10 @@ class Kept(DeskCase):
     def test_behind_refusals(self):
         desk = desk_with(THREE)
         before = told(desk)
-        for row in ["cutting 4", "cutting 2 1:1", "cutting 2 1,0:1 1,0:1", "cut 1,0:0", "drop 9", "x", None, "cut x"]:
+        for row in [
+            "cutting 4", "cutting 4 x", "cutting 2 1:1", "cutting 2 1,0:1 1,0:1", "cut 1,0:0", "drop 9", "x", None,
+            "cut x",
+        ]:
             with self.assertRaises(CutError):
                 desk.say(row)
         self.assertEqual(told(desk), before)

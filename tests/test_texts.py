@@ -31,6 +31,8 @@ BAD_NUMBERS = [
     ":1", "/1", "1/", "1\x00", "'1'", "(1)", "1;1", "nan", "inf", "None", "True",
 ]
 
+DIMS_THAT_ARE_NONE = ["0", "4", "-1", "-2", "-3", "5", "10", "22", "9" * 60, "-" + "9" * 60]
+
 
 class TextCase(unittest.TestCase):
     def refused(self, reader, thing):
@@ -180,13 +182,30 @@ class Cuttings(TextCase):
         ]:
             self.refused(read_cutting, text)
 
+    def refused_at(self, text, at):
+        with self.assertRaises(NoCutting) as caught:
+            read_cutting(text)
+        self.assertIs(type(caught.exception), NoCutting)
+        self.assertEqual(caught.exception.at, at, text)
+
     def test_dims_that_are_none(self):
-        for word in ["0", "4", "-1", "-2", "5", "10", "22", "9" * 60]:
-            self.refused(read_cutting, word)
+        eight = " ".join("1:" + str(c) for c in range(8))
+        for word in DIMS_THAT_ARE_NONE:
+            self.refused_at(word, -1)
+            for cuts in ("1,0:3", "1:3", "1,2,3:4", "1,0:3 1:3", "1:3 1:3", "1:3 2:6", eight):
+                self.refused_at(word + " " + cuts, -1)
+
+    def test_dims_that_are_no_number(self):
+        for word in BAD_NUMBERS + ["02", "+2", "2.0", "04", "+4", "4/1", "-04"]:
             self.refused(read_cutting, word + " 1,0:3")
-            self.refused(read_cutting, word + " 1:3")
-        for word in BAD_NUMBERS + ["02", "+2", "2.0"]:
-            self.refused(read_cutting, word + " 1,0:3")
+            self.refused(read_cutting, word + " 1,0:3 1,0:3")
+
+    def test_no_cut_behind_dims_that_are_none(self):
+        for word in DIMS_THAT_ARE_NONE:
+            for cut in ["", "x", "1,0", "0,0:1", "0:0", "1,2,3,4:5", "01:3", "1:-0", "1:" + "9" * 61, "1/2:3", "4"]:
+                self.refused(read_cutting, word + " " + cut)
+                self.refused(read_cutting, word + " 1:3 " + cut)
+                self.refused(read_cutting, word + " " + cut + " 1:3")
 
     def test_cuts_with_numbers_all_0_and_of_four_dims(self):
         for text in ["2 0,0:1", "2 1,0:3 0,0:0", "1 0:1", "3 0,0,0:1", "3 1,2,3,4:5", "2 1,0:3 1,2,3,4:5", "2 :1"]:
@@ -199,13 +218,10 @@ class Cuttings(TextCase):
             ("2 1,0:3 2,0:6", 1), ("2 1,0:3 0,1:3 -1,0:-3", 2), ("1 " + eight, 7), ("1 " + eight + " 1:8", 7),
             ("1 1:0 2:0 1,1:1", 1), ("1 1:0 1,1:1 2:0", 1), ("3 1,2,3:4 0,0,1:0 2,4,6:8 0,0,2:0", 2),
         ]:
-            with self.assertRaises(NoCutting) as caught:
-                read_cutting(text)
-            self.assertIs(type(caught.exception), NoCutting)
-            self.assertEqual(caught.exception.at, at, text)
+            self.refused_at(text, at)
 
     def test_no_text_ahead_of_no_cutting(self):
-        for text in ["2 1:3 x", "2 1,0:3 1,0:3 ", "2 1,0:3 1,0:3 0,0:1", "1 1:0 2:0 03:1", "4 1:3 1:3"]:
+        for text in ["2 1:3 x", "2 1,0:3 1,0:3 ", "2 1,0:3 1,0:3 0,0:1", "1 1:0 2:0 03:1", "4 1:3 x"]:
             self.refused(read_cutting, text)
 
 
